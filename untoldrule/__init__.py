@@ -1,0 +1,1 @@
+"""Untoldrule: weavings that keep every rule which whole programs keep."""
