@@ -3,7 +3,7 @@
 import inspect
 import unittest
 
-from untoldrule import cells, errors, programs
+from untoldrule import cells, errors, plans, programs, systems, whole
 
 METHODS = {
     (cells, "Cells"): {
@@ -22,7 +22,59 @@ METHODS = {
     (programs, "Write"): {"text": ["self"], "reads": ["self"], "writes": ["self"]},
     (programs, "ReadWrite"): {"text": ["self"], "reads": ["self"], "writes": ["self"]},
     (programs, "Program"): {"text": ["self"]},
+    (systems, "System"): {
+        "__init__": ["self", "cells", "programs"],
+        "program_named": ["self", "name"],
+        "functions": ["self"],
+    },
+    (systems, "Machine"): {
+        "__init__": ["self", "system", "size", "tables"],
+        "__call__": ["self", "name", "state"],
+        "apply": ["self", "function", "args"],
+        "run": ["self", "names", "state"],
+    },
+    (plans, "Plan"): {"__add__": None, "__or__": None},
+    (plans, "Weave"): {
+        "__init__": ["self", "system", "plan"],
+        "places": ["self"],
+        "total": ["self", "places=None"],
+        "walk": ["self", "places=None"],
+        "nth": ["self", "position", "places=None"],
+        "rank": ["self", "weaving"],
+        "opened": ["self", "weaving"],
+        "walk_steps": ["self", "weaving"],
+    },
+    (whole, "Rule"): {
+        "__init__": ["self", "states"],
+        "__iter__": None,
+        "__len__": None,
+        "__contains__": None,
+        "__le__": None,
+        "__and__": None,
+    },
+    (whole, "Breach"): {},
 }
+CLASS_METHODS = {
+    (programs, "Program"): {"read": ["text"]},
+    (plans, "Plan"): {"of": ["*names"], "empty": []},
+}
+FUNCTIONS = {
+    cells: {"columns": ["names", "states"]},
+    whole: {
+        "rows_from": ["machine", "start", "names=None"],
+        "least_rule": ["machine", "start", "names=None"],
+        "first_break": ["machine", "rule", "names=None"],
+        "trace": ["machine", "plan", "weaving", "state"],
+        "end_state": ["machine", "plan", "weaving", "state"],
+        "least_rows": ["machine", "plan", "weaving", "names=None"],
+        "breach": ["machine", "plan", "weaving", "names=None"],
+        "broken_at": ["machine", "plan", "weaving", "rule"],
+    },
+}
+
+
+def arguments_of(called):
+    return [str(parameter) for parameter in inspect.signature(called).parameters.values()]
 
 
 class InterfaceTest(unittest.TestCase):
@@ -32,7 +84,14 @@ class InterfaceTest(unittest.TestCase):
                 with self.subTest(owner=owner, name=name):
                     method = vars(getattr(module, owner))[name]
                     if arguments is not None:
-                        self.assertEqual(list(inspect.signature(method).parameters), arguments)
+                        self.assertEqual(arguments_of(method), arguments)
+
+    def test_class_methods_are_defined_in_the_class_itself(self):
+        for (module, owner), methods in CLASS_METHODS.items():
+            for name, arguments in methods.items():
+                with self.subTest(owner=owner, name=name):
+                    self.assertIsInstance(vars(getattr(module, owner))[name], classmethod)
+                    self.assertEqual(arguments_of(getattr(getattr(module, owner), name)), arguments)
 
     def test_classes_are_defined_in_their_file(self):
         for module, owner in METHODS:
@@ -40,21 +99,31 @@ class InterfaceTest(unittest.TestCase):
                 self.assertEqual(getattr(module, owner).__module__, module.__name__)
         self.assertEqual(errors.WeaveError.__module__, "untoldrule.errors")
 
-    def test_columns_is_a_function_of_its_file(self):
-        self.assertEqual(cells.columns.__module__, "untoldrule.cells")
-        self.assertEqual(list(inspect.signature(cells.columns).parameters), ["names", "states"])
+    def test_functions_are_defined_in_their_file(self):
+        for module, functions in FUNCTIONS.items():
+            for name, arguments in functions.items():
+                with self.subTest(name=name):
+                    function = getattr(module, name)
+                    self.assertTrue(inspect.isfunction(function))
+                    self.assertEqual(function.__module__, module.__name__)
+                    self.assertEqual(arguments_of(function), arguments)
 
     def test_contents_is_a_property_with_a_setter(self):
         contents = vars(cells.Cells)["contents"]
         self.assertIsInstance(contents, property)
         self.assertIsNotNone(contents.fset)
 
-    def test_read_is_a_class_method(self):
-        read = vars(programs.Program)["read"]
-        self.assertIsInstance(read, classmethod)
-        self.assertEqual(list(inspect.signature(programs.Program.read).parameters), ["text"])
+    def test_class_values(self):
+        self.assertEqual(vars(plans.Plan)["MOST_LANES"], 3)
+        self.assertEqual(vars(plans.Plan)["MOST_NAMES"], 4)
+        self.assertEqual(vars(plans.Weave)["MOST_STEPS"], 8)
 
-    def test_arguments_may_be_passed_by_name(self):
+    def test_generators(self):
+        for owner, name in ((cells.Cells, "states"), (plans.Weave, "walk"), (plans.Weave, "walk_steps")):
+            with self.subTest(name=name):
+                self.assertTrue(inspect.isgeneratorfunction(vars(owner)[name]))
+
+    def test_arguments_of_cells_may_be_passed_by_name(self):
         held = cells.Cells(names=["x", "y"], size=2)
         held.change(name="x", value=1)
         self.assertEqual(held.peek(changes=[("y", 1)]), (1, 1))
@@ -62,7 +131,32 @@ class InterfaceTest(unittest.TestCase):
         held.reset(state=(0, 1))
         self.assertEqual(held.contents, (0, 1))
         self.assertEqual(cells.columns(names=["x"], states=[]), ["        x"])
-        self.assertEqual(programs.Program.read(text="program p").name, "p")
+
+    def test_arguments_of_programs_and_rules_may_be_passed_by_name(self):
+        given = programs.Program.read(text="program p\nread x as a write x by f of a")
+        system = systems.System(cells=["x"], programs=[given])
+        machine = systems.Machine(system=system, size=2, tables={"f": (1, 0)})
+        self.assertEqual(system.program_named(name="p").name, "p")
+        self.assertEqual(machine.apply(function="f", args=[1]), 0)
+        self.assertEqual(machine(name="p", state=[1]), (0,))
+        self.assertEqual(machine.run(names=["p", "p"], state=[1]), (1,))
+        plan = plans.Plan.of("p")
+        weave = plans.Weave(system=system, plan=plan)
+        self.assertEqual(weave.total(places=[]), 1)
+        self.assertEqual(list(weave.walk(places=[])), [(0,)])
+        self.assertEqual(weave.nth(position=0, places=[]), (0,))
+        self.assertEqual(weave.rank(weaving=(0,)), 0)
+        self.assertEqual(weave.opened(weaving=(0,)), [])
+        self.assertEqual(len(list(weave.walk_steps(weaving=(0,)))), 1)
+        rule = whole.Rule(states=[(0,)])
+        self.assertEqual(len(whole.rows_from(machine=machine, start=(0,), names=["p"])), 2)
+        self.assertEqual(len(whole.least_rule(machine=machine, start=(0,), names=["p"])), 2)
+        self.assertEqual(whole.first_break(machine=machine, rule=rule, names=["p"]), ((0,), "p"))
+        self.assertEqual(whole.end_state(machine=machine, plan=plan, weaving=(0,), state=(0,)), (1,))
+        self.assertEqual(whole.trace(machine=machine, plan=plan, weaving=(0,), state=(0,)), [(0,), (1,)])
+        self.assertEqual(whole.least_rows(machine=machine, plan=plan, weaving=(0,), names=[]), [None, None])
+        self.assertEqual(whole.breach(machine=machine, plan=plan, weaving=(0,), names=[]).step, 0)
+        self.assertEqual(whole.broken_at(machine=machine, plan=plan, weaving=(0,), rule=rule), (0,))
 
 
 if __name__ == "__main__":
