@@ -3,7 +3,7 @@
 import inspect
 import unittest
 
-from untoldrule import cells, errors, plans, programs, systems, whole
+from untoldrule import cells, errors, formulas, plans, programs, runs, schedulers, systems, whole
 
 METHODS = {
     (cells, "Cells"): {
@@ -53,7 +53,39 @@ METHODS = {
         "__and__": None,
     },
     (whole, "Breach"): {},
+    (formulas, "Formulas"): {
+        "__init__": ["self", "number"],
+        "__call__": ["self", "function", "args"],
+        "rows": ["self"],
+    },
+    (formulas, "FreeStore"): {"__call__": ["self", "function", "args"], "rows": ["self"]},
+    (schedulers, "SerialScheduler"): {"__init__": ["self", "system", "plan"], "lets": ["self", "weaving"]},
+    (schedulers, "NamesScheduler"): {
+        "__init__": ["self", "system", "plan", "woven_only=False"],
+        "lets": ["self", "weaving"],
+    },
+    (schedulers, "TablesScheduler"): {
+        "__init__": ["self", "machine", "plan", "woven_only=False"],
+        "lets": ["self", "weaving"],
+    },
+    (schedulers, "RuleScheduler"): {
+        "__init__": ["self", "machine", "plan", "rule", "woven_only=False"],
+        "lets": ["self", "weaving"],
+    },
+    (runs, "Run"): {
+        "__init__": ["self", "scheduler", "machine", "state"],
+        "choices": ["self"],
+        "advance": ["self", "lane"],
+        "attempt": ["self", "lanes"],
+    },
 }
+BASES = {
+    (programs, "ReadWrite"): (programs.Read, programs.Write),
+    (schedulers, "NamesScheduler"): (schedulers.SerialScheduler,),
+    (schedulers, "TablesScheduler"): (schedulers.NamesScheduler,),
+    (schedulers, "RuleScheduler"): (schedulers.TablesScheduler,),
+}
+PROPERTIES = {(cells, "Cells"): ["contents"], (runs, "Run"): ["state", "done", "finished"]}
 CLASS_METHODS = {
     (programs, "Program"): {"read": ["text"]},
     (plans, "Plan"): {"of": ["*names"], "empty": []},
@@ -69,6 +101,19 @@ FUNCTIONS = {
         "least_rows": ["machine", "plan", "weaving", "names=None"],
         "breach": ["machine", "plan", "weaving", "names=None"],
         "broken_at": ["machine", "plan", "weaving", "rule"],
+    },
+    formulas: {
+        "ends": ["system", "plan", "weaving"],
+        "same_row": ["system", "plan", "weaving", "names=None"],
+        "free_store": ["system", "plan", "weaving", "names=None"],
+    },
+    schedulers: {
+        "let_weavings": ["scheduler"],
+        "completions": ["scheduler", "beginning=()"],
+        "next_lanes": ["scheduler", "beginning=()"],
+        "compare": ["first", "second"],
+        "first_fault": ["scheduler", "places=None"],
+        "greatest_lots": ["scheduler"],
     },
 }
 
@@ -108,10 +153,23 @@ class InterfaceTest(unittest.TestCase):
                     self.assertEqual(function.__module__, module.__name__)
                     self.assertEqual(arguments_of(function), arguments)
 
-    def test_contents_is_a_property_with_a_setter(self):
-        contents = vars(cells.Cells)["contents"]
-        self.assertIsInstance(contents, property)
-        self.assertIsNotNone(contents.fset)
+    def test_properties(self):
+        for (module, owner), names in PROPERTIES.items():
+            for name in names:
+                with self.subTest(owner=owner, name=name):
+                    self.assertIsInstance(vars(getattr(module, owner))[name], property)
+        self.assertIsNotNone(cells.Cells.contents.fset)
+
+    def test_bases(self):
+        for (module, owner), bases in BASES.items():
+            with self.subTest(owner=owner):
+                self.assertEqual(getattr(module, owner).__bases__, bases)
+
+    def test_woven_only_stands_behind_the_star(self):
+        for owner in ("NamesScheduler", "TablesScheduler", "RuleScheduler"):
+            with self.subTest(owner=owner):
+                given = inspect.signature(getattr(schedulers, owner)).parameters["woven_only"]
+                self.assertIs(given.kind, inspect.Parameter.KEYWORD_ONLY)
 
     def test_class_values(self):
         self.assertEqual(vars(plans.Plan)["MOST_LANES"], 3)
@@ -122,6 +180,7 @@ class InterfaceTest(unittest.TestCase):
         for owner, name in ((cells.Cells, "states"), (plans.Weave, "walk"), (plans.Weave, "walk_steps")):
             with self.subTest(name=name):
                 self.assertTrue(inspect.isgeneratorfunction(vars(owner)[name]))
+        self.assertTrue(inspect.isgeneratorfunction(schedulers.let_weavings))
 
     def test_arguments_of_cells_may_be_passed_by_name(self):
         held = cells.Cells(names=["x", "y"], size=2)
@@ -157,6 +216,35 @@ class InterfaceTest(unittest.TestCase):
         self.assertEqual(whole.least_rows(machine=machine, plan=plan, weaving=(0,), names=[]), [None, None])
         self.assertEqual(whole.breach(machine=machine, plan=plan, weaving=(0,), names=[]).step, 0)
         self.assertEqual(whole.broken_at(machine=machine, plan=plan, weaving=(0,), rule=rule), (0,))
+
+    def test_arguments_of_formulas_schedulers_and_runs_may_be_passed_by_name(self):
+        given = programs.Program.read(text="program p\nread x as a write x by f of a\nread x as a")
+        system = systems.System(cells=["x"], programs=[given])
+        machine = systems.Machine(system=system, size=2, tables={"f": (1, 0)})
+        plan = plans.Plan.of("p") | plans.Plan.of("p")
+        table = formulas.Formulas(number=1)
+        self.assertEqual(table(function="f", args=[0]), 1)
+        self.assertEqual(formulas.ends(system=system, plan=plan, weaving=(0, 0, 1, 1))[1], (2,))
+        self.assertEqual(formulas.same_row(system=system, plan=plan, weaving=(0, 0, 1, 1), names=["p"]), ("p", "p"))
+        store = formulas.free_store(system=system, plan=plan, weaving=(0, 0, 1, 1), names=[])
+        self.assertEqual([store.size, store(function="f", args=[1])], [4, 2])
+        rule = whole.Rule(states=[(0,), (1,)])
+        made = [
+            schedulers.SerialScheduler(system=system, plan=plan),
+            schedulers.NamesScheduler(system=system, plan=plan, woven_only=True),
+            schedulers.TablesScheduler(machine=machine, plan=plan, woven_only=True),
+            schedulers.RuleScheduler(machine=machine, plan=plan, rule=rule, woven_only=True),
+        ]
+        for scheduler in made:
+            self.assertIs(scheduler.lets(weaving=(0, 0, 1, 1)), True)
+            self.assertEqual(len(list(schedulers.let_weavings(scheduler=scheduler))) > 1, True)
+            self.assertEqual(schedulers.completions(scheduler=scheduler, beginning=(0, 0)), 1)
+            self.assertEqual(schedulers.next_lanes(scheduler=scheduler, beginning=(0, 0)), (1,))
+            self.assertIsNone(schedulers.first_fault(scheduler=scheduler, places=[]))
+            self.assertEqual(len(schedulers.greatest_lots(scheduler=scheduler)), 1)
+        self.assertEqual(schedulers.compare(first=made[2], second=made[3]), (None, None))
+        run = runs.Run(scheduler=made[0], machine=machine, state=(0,))
+        self.assertEqual([run.advance(lane=0), run.attempt(lanes=[0, 1])], [(1,), (0,)])
 
 
 if __name__ == "__main__":

@@ -4,16 +4,8 @@ import itertools
 import random
 import unittest
 
-from untoldrule.errors import (
-    InvalidState,
-    InvalidWeaving,
-    OutOfRange,
-    TooManySteps,
-    UnknownProgram,
-    WeaveError,
-)
-from untoldrule.plans import Plan, Weave
-from untoldrule.programs import Program
+from models import MODELS, RANDOM_MODELS, UP, choices_of_names, plan_of, program, refused, subsets, woven
+from untoldrule.errors import InvalidState, InvalidWeaving, OutOfRange, TooManySteps, UnknownProgram
 from untoldrule.systems import Machine, System
 from untoldrule.whole import (
     Breach,
@@ -29,166 +21,6 @@ from untoldrule.whole import (
 )
 
 
-def program(name, *lines):
-    return Program.read("\n".join([f"program {name}", *lines]))
-
-
-def plan_of(*lanes):
-    plan = Plan.empty()
-    for names in lanes:
-        plan = plan | Plan.of(*names)
-    return plan
-
-
-def subsets(things):
-    return [chosen for many in range(len(things) + 1) for chosen in itertools.combinations(things, many)]
-
-
-class Model:
-    """A machine and what it does, found by reading the lines of its programs and by trying all rows and rules."""
-
-    def __init__(self, cells, programs, size, tables):
-        self.cells, self.size, self.tables = cells, size, tables
-        self.lines = {given.name: given.text().split("\n")[1:] for given in programs}
-        self.names = [given.name for given in programs]
-        self.system = System(cells, programs)
-        self.machine = Machine(self.system, size, tables)
-        self.starts = list(itertools.product(range(size), repeat=len(cells)))
-        self.ends = {name: {start: self.alone(name, start) for start in self.starts} for name in self.names}
-
-    def step(self, line, state, variables):
-        words = line.split(" ")
-        state = dict(zip(self.cells, state))
-        if words[0] == "read":
-            variables[words[3]] = state[words[1]]
-            words = words[4:]
-        if words:
-            index = 0
-            for local in words[5:]:
-                index = self.size * index + variables[local]
-            state[words[1]] = self.tables[words[3]][index]
-        return tuple(state[name] for name in self.cells)
-
-    def alone(self, name, state):
-        variables = {}
-        for line in self.lines[name]:
-            state = self.step(line, state, variables)
-        return state
-
-    def passed(self, lanes, weaving, state):
-        waiting = []
-        for names in lanes:
-            lines = []
-            for name in names:
-                variables = {}
-                lines.extend((line, variables) for line in self.lines[name])
-            waiting.append(lines)
-        found = [state]
-        for lane in weaving:
-            line, variables = waiting[lane].pop(0)
-            found.append(self.step(line, found[-1], variables))
-        return found
-
-    def rows(self, start, names):
-        """Each state that some row leads to, with the first such row, in the order of the rows."""
-        known = [name for name in self.names if names is None or name in names]
-        found = {}
-        for length in range(len(self.starts)):
-            for row in itertools.product(known, repeat=length):
-                state = start
-                for name in row:
-                    state = self.ends[name][state]
-                found.setdefault(state, row)
-        return found
-
-    def kept_rules(self, names):
-        known = [name for name in self.names if names is None or name in names]
-        return [
-            states
-            for states in subsets(self.starts)
-            if all(self.ends[name][state] in states for name in known for state in states)
-        ]
-
-
-EXAMPLE = [
-    program("flip", "read x as a write x by f of a", "read y as b write y by f of b"),
-    program("mark", "read x as a write x by g of a", "read y as b write y by g of b"),
-]
-UP = {"up": (1, 2, 0), "sum": (0, 1, 2, 1, 2, 0, 2, 0, 1), "zero": (0,)}
-LINES = [
-    "read x as a",
-    "read y as b",
-    "write y by one of a",
-    "write x by one of b",
-    "write x by two of a b",
-    "write y by two of b a",
-    "read x as a write x by one of a",
-    "read y as b write y by one of b",
-    "read y as b write x by nil",
-    "write y by nil",
-]
-
-
-def random_program(name, chance):
-    while True:
-        lines = chance.choices(LINES, k=chance.randrange(4))
-        try:
-            return program(name, *lines)
-        except WeaveError:
-            continue
-
-
-def random_model(seed):
-    chance = random.Random(seed)
-    programs = [random_program(name, chance) for name in "qpr"[: chance.choice((1, 2, 2, 2, 3))]]
-    tables = {name: chance.choices((0, 1), k=many) for name, many in (("nil", 1), ("one", 2), ("two", 4))}
-    return Model(["x", "y"], programs, 2, tables)
-
-
-RANDOM_MODELS = [random_model(seed) for seed in range(40)]
-
-# Models with the lanes of a few plans.
-MODELS = [
-    (Model(["x", "y"], EXAMPLE, 2, {"f": (1, 0), "g": (1, 1)}), [[["flip"], ["mark"]], [["flip", "mark"], ["mark"]]]),
-    (Model(["x", "y"], EXAMPLE, 2, {"f": (1, 0), "g": (1, 0)}), [[["flip"], ["mark"]], [["mark"], ["mark"], []]]),
-    (
-        Model(
-            ["x", "y"],
-            [
-                program("b", "read x as a write x by up of a"),
-                program("a", "read x as a", "read y as b", "write y by sum of a b"),
-            ],
-            3,
-            UP,
-        ),
-        [[["a"], ["b"]], [["a", "a"], ["b"]], [[], []]],
-    ),
-    (
-        Model(
-            ["z", "x", "y"],
-            [
-                program("p", "read x as a write z by f of a", "read z as a write y by f of a"),
-                program("q", "write x by g"),
-            ],
-            2,
-            {"f": (1, 0), "g": (1,)},
-        ),
-        [[["p"], ["q"]], [["q", "p"], ["p"]]],
-    ),
-    (Model(["x"], [], 3, {}), [[], [[]]]),
-    *[(model, [[model.names[:1], model.names[:1]], [model.names[-1:], model.names[:1]]]) for model in RANDOM_MODELS],
-]
-
-
-def woven():
-    """Each model with each of its plans and each weaving of it."""
-    for model, plans in MODELS:
-        for lanes in plans:
-            plan = plan_of(*lanes)
-            for weaving in Weave(model.system, plan).walk():
-                yield model, lanes, plan, weaving
-
-
 def small_models():
     """The models that have so few states that all their rules can be tried."""
     return [model for model, _ in MODELS if len(model.starts) <= 4]
@@ -196,10 +28,6 @@ def small_models():
 
 def small_woven():
     return [given for given in woven() if len(given[0].starts) <= 4]
-
-
-def choices_of_names(model):
-    return [None, *subsets(model.names)]
 
 
 class RuleTest(unittest.TestCase):
@@ -503,10 +331,7 @@ class ErrorsTest(unittest.TestCase):
         self.rule = Rule([(2, 2), (1, 2), (0, 0), (5, 0)])
 
     def refused(self, call, kind, **fields):
-        with self.assertRaises(WeaveError) as caught:
-            call()
-        self.assertEqual((caught.exception.__class__, vars(caught.exception)), (kind, fields))
-        return caught.exception.__cause__
+        return refused(self, call, kind, **fields)
 
     def refused_state(self, call):
         """The call takes a state; it is refused for each wrong state, with the cause of the error."""

@@ -92,9 +92,13 @@ class Weave:
 
     def walk_steps(self, weaving):
         """Yield the lane, the name of the program and the text of the step for each item of a weaving."""
-        self.check_weaving(weaving)
-        for turn in self.turns_of(weaving):
+        for turn in self.take_weaving(weaving):
             yield (turn.lane, turn.name, turn.step.text())
+
+    def take_weaving(self, weaving):
+        """Return the list of the turns that a weaving consists of; raise InvalidWeaving if it is not one."""
+        self.check_weaving(weaving)
+        return self.turns_of(weaving)
 
     def turns_of(self, beginning):
         """Return the list of the turns that a beginning consists of."""

@@ -94,7 +94,7 @@ def first_break(machine, rule, names=None):
 
 def trace(machine, plan, weaving, state):
     """Return the list of the states before the first step of the weaving and after each step."""
-    turns = list_weaving(machine, plan, weaving)
+    turns = list_weaving(machine.system, plan, weaving)
     machine.check_start(state)
     return machine.follow(turns, tuple(state))
 
@@ -106,7 +106,7 @@ def end_state(machine, plan, weaving, state):
 
 def least_rows(machine, plan, weaving, names=None):
     """Return, for each start, the least row that leads to the end of the weaving, or None if there is none."""
-    turns = list_weaving(machine, plan, weaving)
+    turns = list_weaving(machine.system, plan, weaving)
     known = machine.system.known(names)
     found = []
     for start in machine.list_starts():
@@ -127,7 +127,7 @@ class Breach:
 
 def breach(machine, plan, weaving, names=None):
     """Return the breach at the first start at which the weaving breaks the least rule, or None."""
-    turns = list_weaving(machine, plan, weaving)
+    turns = list_weaving(machine.system, plan, weaving)
     known = machine.system.known(names)
     for start in machine.list_starts():
         passed = machine.follow(turns, start)
@@ -140,7 +140,7 @@ def breach(machine, plan, weaving, names=None):
 
 def broken_at(machine, plan, weaving, rule):
     """Return the first state of the rule at which the weaving breaks it, or None."""
-    turns = list_weaving(machine, plan, weaving)
+    turns = list_weaving(machine.system, plan, weaving)
     check_rule(machine, rule)
     for start in rule:
         if machine.follow(turns, start)[-1] not in rule:
@@ -148,11 +148,9 @@ def broken_at(machine, plan, weaving, rule):
     return None
 
 
-def list_weaving(machine, plan, weaving):
-    """Return the list of the turns of a weaving."""
-    weave = Weave(machine.system, plan)
-    weave.check_weaving(weaving)
-    return weave.turns_of(weaving)
+def list_weaving(system, plan, weaving):
+    """Return the list of the turns of a weaving of a plan."""
+    return Weave(system, plan).take_weaving(weaving)
 
 
 def check_rule(machine, rule):
