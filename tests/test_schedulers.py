@@ -158,6 +158,18 @@ class LetsTest(unittest.TestCase):
             expected = [w for w in case.weavings if all(w in case.right_for_rule(states) for states in rules)]
             self.assertEqual(list(let_weavings(scheduler)), expected)
 
+    def test_a_weaving_that_is_wrong_at_one_start_only(self):
+        """Each program alone ends where it starts, but one may keep for good what the other one writes in between."""
+        pulse = program("p", "read x as a", "write x by up of a", "write x by same of a")
+        system, plan = System(["x"], [pulse]), plan_of(["p"], ["p"])
+        for up, wrong, end in (((1, 1, 2), (0,), (1,)), ((0, 0, 2), (1,), (0,)), ((0, 1, 0), (2,), (0,))):
+            machine = Machine(system, 3, {"up": up, "same": (0, 1, 2)})
+            self.assertIs(TablesScheduler(machine, plan).lets((0, 0, 1, 0, 1, 1)), False)
+            for states in subsets([(0,), (1,), (2,)]):
+                scheduler = RuleScheduler(machine, plan, Rule(states))
+                broken = wrong in states and end not in states
+                self.assertIs(scheduler.lets((0, 0, 1, 0, 1, 1)), not broken)
+
     def test_subclasses(self):
         chain = [SerialScheduler, NamesScheduler, TablesScheduler, RuleScheduler]
         for before, after in zip(chain, chain[1:]):
