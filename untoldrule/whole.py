@@ -59,7 +59,8 @@ def find_rows(run_alone, known, start):
     newest = [start]
     while newest:
         reached = []
-        for state in newest:
+        # A copy is walked, as the list that is filled meanwhile is the one that is newest next.
+        for state in list(newest):
             for name in known:
                 end = run_alone(name, state)
                 if end not in rows:
