@@ -247,7 +247,7 @@ class ExchangeTest(unittest.TestCase):
 
 
 def trees(model, plan, weaving):
-    """The formulas that the cells hold at the end, written out, since their numbers depend on the order of the steps."""
+    """The formulas at the end, written out, since their numbers depend on the order of the steps."""
     rows, numbers = ends(model.system, plan, weaving)
     found = list(model.cells)
     for function, args in rows:
