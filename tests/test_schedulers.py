@@ -356,6 +356,25 @@ class WeavingsTest(unittest.TestCase):
                 self.assertEqual(list(let_weavings(scheduler)), right)
         self.assertIsInstance(let_weavings(scheduler), types.GeneratorType)
 
+    def test_each_weaving_is_decided_once_and_in_ascending_order(self):
+        asked = []
+
+        class Watched(NamesScheduler):
+            def lets(self, weaving):
+                asked.append(weaving)
+                return NamesScheduler.lets(self, weaving)
+
+        for case in CASES:
+            asked.clear()
+            scheduler = Watched(case.model.system, case.plan)
+            with self.subTest(lanes=case.lanes):
+                self.assertEqual(list(let_weavings(scheduler)), case.right_for_names(None))
+                self.assertEqual(asked, case.weavings)
+                completions(scheduler)
+                first_fault(scheduler)
+                greatest_lots(scheduler)
+                self.assertEqual(asked, case.weavings)
+
     def test_two_generators_at_the_same_time(self):
         system = System(["x", "y"], EXAMPLE)
         scheduler = NamesScheduler(system, plan_of(["flip"], ["mark"]))

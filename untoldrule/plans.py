@@ -141,8 +141,7 @@ class Weave:
     def _find_all(self):
         # Only some calls need all weavings; the dict from them to their opened places is made once.
         if not self._found:
-            for weaving in self._list_all():
-                self._found[weaving] = self.opened(weaving)
+            self._found = {weaving: self.opened(weaving) for weaving in self._list_all()}
         return self._found
 
     def _list_all(self):

@@ -22,8 +22,7 @@ class SerialScheduler:
         # A scheduler never changes, and every plan has a weaving, so each weaving is decided once.
         if not self._decided:
             weavings = list(self.weave.walk())
-            for weaving in weavings:
-                self._decided[weaving] = self.lets(weaving)
+            self._decided = {weaving: self.lets(weaving) for weaving in weavings}
         return self._decided
 
 
